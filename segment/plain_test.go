@@ -190,7 +190,7 @@ func (c call) on(s *segment.Segment) error {
 	return s.Sync()
 }
 
-// plain is a segment reckoned by the chapter's words, over a disk of its own: all that stands in the file's good blocks is asked of the disk anew each time, but behind a failure.
+// plain is a segment reckoned by the chapter's words, over a disk of its own; of its good blocks it keeps the counts of their records alone.
 type plain struct {
 	d      *disk.Disk
 	first  uint64
