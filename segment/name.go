@@ -1,28 +1,21 @@
 package segment
 
 import (
-	"strconv"
-	"strings"
-
 	"turnstile/api"
+	"turnstile/filename"
 )
 
-const (
-	beginning = "log."
-	digits    = 16 // behind the beginning
-)
+const beginning = "log."
 
 // Name: the name of the segment whose first record has this number.
 func Name(first uint64) string {
-	number := strconv.FormatUint(first, 16)
-	return beginning + strings.Repeat("0", digits-len(number)) + number
+	return filename.Of(beginning, first)
 }
 
 // First: the number in a segment's name; 0 and false if it is none.
 func First(name string) (uint64, bool) {
-	first, err := strconv.ParseUint(strings.TrimPrefix(name, beginning), 16, 64)
-	// A number may be read out of texts of other forms, too: so its name is held against the text.
-	if err != nil || !isNumber(first) || Name(first) != name {
+	first, ok := filename.Number(beginning, name)
+	if !ok || !isNumber(first) {
 		return 0, false
 	}
 	return first, true
